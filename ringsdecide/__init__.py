@@ -1,0 +1,1 @@
+"""Ringsdecide: when rings decide whether told relations can be completed."""

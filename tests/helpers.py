@@ -1,0 +1,199 @@
+"""What the tests share: kinds to try, and the document's words worked out slowly, without the package's own ways."""
+
+import random
+import unittest
+from itertools import combinations, permutations, product
+
+from ringsdecide.kinds import Kind
+
+
+class EqualToAll:
+    """A value that says it equals everything."""
+
+    def __eq__(self, other):
+        return True
+
+    def __ne__(self, other):
+        return False
+
+    __hash__ = None
+
+
+ODD_VALUES = [
+    None, True, False, 0.0, 1.0, -1, 7, 10 ** 40, "", "01", b"01", "turned 0", object(), EqualToAll(), {}, {0: 0},
+    set(), {0}, frozenset([0]), range(2), (), [], (None,), [[]], ((),), (0,), (True,), (0, 0, True), ((0, 0, 0),),
+    [(0, 0, 0)], int, len, Kind, float("nan"), iter([0]),
+]
+
+
+class Case(unittest.TestCase):
+    """A test case that can ask for a refusal with its number."""
+
+    def refused(self, error, at, function, *values, **named):
+        with self.assertRaises(error) as caught:
+            function(*values, **named)
+        self.assertIs(type(caught.exception), error)
+        self.assertIs(type(caught.exception.at), int)
+        self.assertEqual(caught.exception.at, at, (function, values, named))
+
+    def all_tuples(self, value):
+        """Check that nothing within is a list, and that it can be kept."""
+        self.assertNotIsInstance(value, (list, dict, set))
+        if isinstance(value, tuple):
+            for part in value:
+                self.all_tuples(part)
+
+
+def turnings(many):
+    """All ways to turn so many relations."""
+    return [row for row in permutations(range(many)) if all(row[row[x]] == x for x in range(many))]
+
+
+def six_readings(turned, triple):
+    """The readings of a triple, by putting it on three places."""
+    x, y, z = triple
+    between = {(0, 1): x, (1, 2): y, (0, 2): z, (1, 0): turned[x], (2, 1): turned[y], (2, 0): turned[z]}
+    return {(between[u, v], between[v, w], between[u, w]) for u, v, w in permutations(range(3))}
+
+
+def reading_groups(turned):
+    """All triples, those that are readings of one another in one list."""
+    left = set(product(range(len(turned)), repeat=3))
+    groups = []
+    while left:
+        group = six_readings(turned, min(left))
+        groups.append(sorted(group))
+        left -= group
+    return groups
+
+
+def all_kinds(many):
+    """All kinds with so many relations."""
+    for turned in turnings(many):
+        groups = reading_groups(turned)
+        for wanted in product((False, True), repeat=len(groups)):
+            yield Kind(turned, [triple for group, want in zip(groups, wanted) if want for triple in group])
+
+
+def some_kinds(many, count, seed):
+    """Some kinds with so many relations, always the same ones; many of them with most triples."""
+    chance = random.Random(seed)
+    for at in range(count):
+        turned = chance.choice(turnings(many))
+        if at % 2:
+            turned = tuple(range(many))
+        share = 1 - chance.random() ** 2
+        groups = reading_groups(turned)
+        yield Kind(turned, [triple for group in groups if chance.random() < share for triple in group])
+
+
+def small_kinds():
+    """All kinds of one and two relations, and some of three."""
+    return list(all_kinds(1)) + list(all_kinds(2)) + list(some_kinds(3, 40, 3))
+
+
+def stands(kind, rows):
+    """Whether all three places of rows have an allowed triple, every reading looked at."""
+    allowed = set(kind.triples)
+    return all(
+        (rows[u][v], rows[v][w], rows[u][w]) in allowed for u, v, w in permutations(range(len(rows)), 3)
+    )
+
+
+def rows_with(kind, places, told):
+    """Rows in which a dict of pairs, u less than v, is told."""
+    rows = [[None] * places for _ in range(places)]
+    for (u, v), x in told.items():
+        rows[u][v] = x
+        rows[v][u] = kind.turned[x]
+    return tuple(tuple(row) for row in rows)
+
+
+def slow_full_networks(kind, places):
+    """All full networks, by trying all relations of all pairs."""
+    pairs = list(combinations(range(places), 2))
+    found = []
+    for relations in product(range(kind.relations), repeat=len(pairs)):
+        rows = rows_with(kind, places, dict(zip(pairs, relations)))
+        if stands(kind, rows):
+            found.append(rows)
+    return tuple(sorted(found))
+
+
+def slow_first_completion(network):
+    """The first completion: pair by pair, ascending, each relation tried, without looking ahead."""
+    kind, places = network.kind, network.places
+    allowed = set(kind.triples)
+    pairs = list(combinations(range(places), 2))
+    rows = [[None] * places for _ in range(places)]
+
+    def fill(at):
+        if at == len(pairs):
+            return True
+        u, v = pairs[at]
+        told = network.between(u, v)
+        for x in range(kind.relations) if told is None else (told,):
+            if all((rows[w][u], x, rows[w][v]) in allowed for w in range(u)):
+                rows[u][v], rows[v][u] = x, kind.turned[x]
+                if fill(at + 1):
+                    return True
+        return False
+
+    return tuple(tuple(row) for row in rows) if fill(0) else None
+
+
+def with_new_place(kind, rows, extension):
+    """Rows with one more place, by the words of the document."""
+    places = len(rows)
+    told = {(u, v): rows[u][v] for u, v in combinations(range(places), 2)}
+    told.update({(u, places): kind.turned[extension[u]] for u in range(places)})
+    return rows_with(kind, places + 1, told)
+
+
+def slow_extensions(kind, rows):
+    """All extensions, by trying all relations of the new place."""
+    return tuple(
+        extension
+        for extension in product(range(kind.relations), repeat=len(rows))
+        if stands(kind, with_new_place(kind, rows, extension))
+    )
+
+
+def slow_common_lot(kind, one, other):
+    """The relations that two new places can have, triple by triple."""
+    allowed = set(kind.triples)
+    return tuple(
+        z for z in range(kind.relations)
+        if all((x, kind.turned[y], z) in allowed for x, y in zip(one, other))
+    )
+
+
+def slow_glues_over(kind, places):
+    """Whether each two extensions of each full network leave a relation."""
+    for rows in slow_full_networks(kind, places):
+        found = slow_extensions(kind, rows)
+        for one in found:
+            for other in found:
+                if not slow_common_lot(kind, one, other):
+                    return False
+    return True
+
+
+def slow_ends(kind, word):
+    """The relations between the ends of a way, as a set, relation by relation."""
+    found = {word[0]}
+    for y in word[1:]:
+        found = {z for x, other, z in kind.triples if x in found and other == y}
+    return found
+
+
+def words_up_to(kind, length):
+    """All words with at most so many relations, the shortest ahead, then ascending."""
+    for count in range(1, length + 1):
+        yield from product(range(kind.relations), repeat=count)
+
+
+def all_but_threes(many):
+    """The kind of [12]: all triples but (x, x, x)."""
+    triples = [triple for triple in product(range(many), repeat=3) if len(set(triple)) > 1]
+    return Kind(tuple(range(many)), triples)
