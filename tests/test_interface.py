@@ -1,0 +1,68 @@
+"""The interface: names, arguments and methods stand where the document lists them."""
+
+import inspect
+import unittest
+from importlib import import_module
+
+from ringsdecide.built import order_kind
+from ringsdecide.fullnets import common_lot, extended
+from ringsdecide.meeting import clashing_ways, common_of_ways
+from ringsdecide.ways import ends, way_network, ways_network
+
+INTERFACE = {
+    "kinds": "Kind(turned, triples); readings(turned, triple); together(kind, x, y); is_allowed(kind, x, y, z); "
+             "renamed(kind, names); likeness(one, other); symmetries(kind)",
+    "built": "free_kind(many); barred_kind(turned, barred); order_kind(); level_kind(many); distance_kind(numbers); "
+             "sum_kind(many); sector_kind(many)",
+    "kindtexts": "kind_text(kind); read_kind(text)",
+    "fullnets": "is_full(kind, value); full_networks(kind, places); extensions(kind, rows); "
+                "extended(kind, rows, extension); common_lot(kind, one, other)",
+    "gluing": "glues_over(kind, places); glues(kind); gluing_fault(kind); is_gluing_fault(kind, value); "
+              "glue(kind, one, other, shared); can_glue(kind, one, other, shared)",
+    "ways": "joined(kind, one, other); ends(kind, word); way_lots(kind); word_of(kind, lot); "
+            "way_network(kind, word, relation); ways_network(kind, words, relation)",
+    "meeting": "meets(kind); meeting_fault(kind); is_meeting_fault(kind, value); decides(kind); "
+               "require_deciding(kind); common_of_ways(kind, words); clashing_ways(kind, words)",
+    "networks": "Network(kind, places, told); with_told(network, u, v, x); rows_of(network); "
+                "is_completion(network, value); tried_completion(network)",
+}
+ERRORS = ["RingsError", "InvalidKind", "InvalidNetwork", "InvalidWord", "InvalidQuestion", "InvalidText",
+          "NotDeciding", "Refused", "InvalidCommand"]
+
+
+class Interface(unittest.TestCase):
+    def test_names_and_arguments(self):
+        for name, listed in INTERFACE.items():
+            module = import_module(f"ringsdecide.{name}")
+            for form in listed.split("; "):
+                thing = getattr(module, form.split("(")[0])
+                self.assertEqual(thing.__module__, module.__name__)
+                self.assertEqual(f"{thing.__name__}{inspect.signature(thing)}", form)
+
+    def test_errors(self):
+        module = import_module("ringsdecide.errors")
+        for name in ERRORS:
+            self.assertEqual(getattr(module, name).__module__, "ringsdecide.errors")
+
+    def test_methods(self):
+        network = import_module("ringsdecide.networks").Network
+        self.assertIn("__eq__", vars(network))
+        self.assertEqual(str(inspect.signature(vars(network)["between"])), "(self, u, v)")
+
+    def test_arguments_stay(self):
+        kind = order_kind()
+        word, words, one, other = [0, 1], [[0], [0, 1]], [0, 1], [1, 1]
+        rows = ((None, 0), (1, None))
+        ends(kind, word)
+        way_network(kind, word, 0)
+        ways_network(kind, words, 0)
+        common_of_ways(kind, words)
+        clashing_ways(kind, words + [[1]])
+        common_lot(kind, one, other)
+        extended(kind, rows, other)
+        self.assertEqual((word, words, one, other), ([0, 1], [[0], [0, 1]], [0, 1], [1, 1]))
+        self.assertEqual(rows, ((None, 0), (1, None)))
+
+
+if __name__ == "__main__":
+    unittest.main()
