@@ -19,6 +19,11 @@ def all_bits(kind):
     return (1 << kind.relations) - 1
 
 
+def turned_bits(kind, bits):
+    """The bits of these relations, each read in the other direction."""
+    return bits_of([kind.turned[x] for x in lot_of(bits)])
+
+
 def joined_bits(kind, one, other):
     """The bits of all relations from u to w, if bits from u to v and from v to w are left."""
     found = 0

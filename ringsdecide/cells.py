@@ -104,10 +104,29 @@ def is_exchanged_first(cells, twins):
     return False
 
 
+def left_cells(joins, cells):
+    """The cells cut by all triangles, or None if one becomes empty."""
+    left = [list(row) for row in cells]
+    return left if tightened(joins, left, all_pairs(len(left))) else None
+
+
 def rows_of_cells(cells):
     """The full network in rows, if one relation is left for each pair."""
     places = range(len(cells))
     return tuple([tuple([None if u == v else cells[u][v].bit_length() - 1 for v in places]) for u in places])
+
+
+def least_rows(joins, cells):
+    """The full network in rows that comes about if pair by pair the least relation left is told.
+
+    The cells are cut already, and the kind decides, so that what is left for a pair always leads on to all others.
+    """
+    left = [list(row) for row in cells]
+    for u, v in all_pairs(len(left)):
+        if is_open(left[u][v]):
+            tell(joins.kind, left, u, v, lot_of(left[u][v])[0])
+            tightened(joins, left, [(u, v)])
+    return rows_of_cells(left)
 
 
 def first_fitting(joins, cells):

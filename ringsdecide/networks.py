@@ -81,9 +81,20 @@ def is_completion(network, value):
     return True
 
 
-def tried_completion(network):
-    """The first completion, or None, for every kind."""
+def told_cells(network):
+    """Cells with each told relation alone, and all relations of the other pairs."""
     cells = open_cells(network.kind, network.places)
     for u, v, x in network.told:
         tell(network.kind, cells, u, v, x)
-    return first_fitting(Joins(network.kind), cells)
+    return cells
+
+
+def tried_completion(network):
+    """The first completion, or None, for every kind."""
+    return first_fitting(Joins(network.kind), told_cells(network))
+
+
+def way_told(word, u, v, first):
+    """What tells a way of this word from u to v; the places between are numbered from `first` on."""
+    places = [u] + [first + at for at in range(len(word) - 1)] + [v]
+    return [(places[at], places[at + 1], x) for at, x in enumerate(word)]

@@ -48,6 +48,14 @@ def ends(kind, word):
     return lot_of(ends_bits(Joins(kind), word))
 
 
+def closes(kind, word):
+    """Whether the last relation of a word, turned, is in the ends of the others: so a ring of this word can close.
+
+    A word that does not close has no full network, for every kind; one that does has some if the kind glues.
+    """
+    return ends_bits(Joins(kind), word[:-1]) >> kind.turned[word[-1]] & 1 == 1
+
+
 def shortest_words(kind):
     """A dict: the bits of the ends of any word, and the first of the shortest words that have them.
 

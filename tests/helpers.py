@@ -1,10 +1,14 @@
 """What the tests share: kinds to try, and the document's words worked out slowly, without the package's own ways."""
 
 import random
+import time
 import unittest
 from itertools import combinations, permutations, product
 
+from ringsdecide.built import distance_kind, free_kind, level_kind, order_kind, sum_kind
 from ringsdecide.kinds import Kind
+from ringsdecide.meeting import decides
+from ringsdecide.networks import Network
 
 
 class EqualToAll:
@@ -35,6 +39,13 @@ class Case(unittest.TestCase):
         self.assertIs(type(caught.exception), error)
         self.assertIs(type(caught.exception.at), int)
         self.assertEqual(caught.exception.at, at, (function, values, named))
+
+    def soon(self, function, *values):
+        """What is returned, checked to come in some seconds."""
+        start = time.perf_counter()
+        told = function(*values)
+        self.assertLess(time.perf_counter() - start, 10, function)
+        return told
 
     def all_tuples(self, value):
         """Check that nothing within is a list, and that it can be kept."""
@@ -197,3 +208,142 @@ def all_but_threes(many):
     """The kind of [12]: all triples but (x, x, x)."""
     triples = [triple for triple in product(range(many), repeat=3) if len(set(triple)) > 1]
     return Kind(tuple(range(many)), triples)
+
+
+def slow_completions(network):
+    """All completions, ascending: pair by pair, each relation tried, without looking ahead."""
+    kind, places = network.kind, network.places
+    allowed = set(kind.triples)
+    pairs = list(combinations(range(places), 2))
+    rows = [[None] * places for _ in range(places)]
+
+    def fill(at):
+        if at == len(pairs):
+            yield tuple(tuple(row) for row in rows)
+            return
+        u, v = pairs[at]
+        told = network.between(u, v)
+        for x in range(kind.relations) if told is None else (told,):
+            if all((rows[w][u], x, rows[w][v]) in allowed for w in range(u)):
+                rows[u][v], rows[v][u] = x, kind.turned[x]
+                yield from fill(at + 1)
+
+    return list(fill(0))
+
+
+def slow_possible_rows(network):
+    """For each pair the relations of all completions, in rows."""
+    found = slow_completions(network)
+    places = range(network.places)
+    return tuple(
+        tuple(None if u == v else tuple(sorted({rows[u][v] for rows in found})) for v in places) for u in places
+    )
+
+
+def slow_rings(network):
+    """All rings, each from its least place on, the second place less than the last one; by trying all orders."""
+    for many in range(3, network.places + 1):
+        for some in combinations(range(network.places), many):
+            for rest in permutations(some[1:]):
+                ring = some[:1] + rest
+                if ring[1] < ring[-1] and all(
+                    network.between(ring[at - 1], ring[at]) is not None for at in range(many)
+                ):
+                    yield ring
+
+
+def slow_is_bare(network, ring):
+    """Whether as many pairs of a ring's places are told as it has neighbours."""
+    return sum(network.between(u, v) is not None for u, v in combinations(ring, 2)) == len(ring)
+
+
+def slow_ring_can(network, ring):
+    """Whether the ring by itself has a completion, all relations of all pairs tried."""
+    many = len(ring)
+    told = [(at, (at + 1) % many, network.between(ring[at], ring[(at + 1) % many])) for at in range(many)]
+    return slow_first_completion(Network(network.kind, many, told)) is not None
+
+
+def some_network(chance, kind, places, share):
+    """A network with about this share of the pairs told, each in either order."""
+    told = []
+    for u, v in combinations(range(places), 2):
+        if chance.random() < share:
+            told.append((u, v, chance.randrange(kind.relations)) if chance.random() < 0.5 else
+                        (v, u, chance.randrange(kind.relations)))
+    chance.shuffle(told)
+    return Network(kind, places, told)
+
+
+def part_of(chance, kind, rows, share, wrong=0):
+    """A network that tells about this share of the pairs of a full network, so many of them anew."""
+    told = [(u, v, rows[u][v]) for u, v in combinations(range(len(rows)), 2) if chance.random() < share]
+    for at in chance.sample(range(len(told)), min(wrong, len(told))):
+        u, v, _ = told[at]
+        told[at] = (u, v, chance.randrange(kind.relations))
+    return Network(kind, len(rows), told)
+
+
+def tree_rows(chance, places, most):
+    """The rows of `distance_kind` for 1 to `most`: steps between the places of a tree, at most `most`."""
+    steps = {(0, 0): 0}
+    for v in range(1, places):
+        above = chance.randrange(max(0, v - 3), v)
+        for u in range(v):
+            steps[u, v] = steps[v, u] = steps[u, above] + 1
+        steps[v, v] = 0
+    return tuple(
+        tuple(None if u == v else min(steps[u, v], most) - 1 for v in range(places)) for u in range(places)
+    )
+
+
+def row_rows(chance, places):
+    """The rows of `order_kind` for places in a row, in any order."""
+    order = list(range(places))
+    chance.shuffle(order)
+    return tuple(
+        tuple(None if u == v else int(order[u] > order[v]) for v in range(places)) for u in range(places)
+    )
+
+
+def level_rows(places, many):
+    """The rows of `level_kind` for places numbered in steps of two: the level that first parts them."""
+    return tuple(
+        tuple(None if u == v else min((u ^ v).bit_length(), many) - 1 for v in range(places)) for u in range(places)
+    )
+
+
+def clock_rows(chance, places, many):
+    """The rows of `sum_kind`: differences of hours."""
+    hours = [chance.randrange(many) for _ in range(places)]
+    return tuple(
+        tuple(None if u == v else (hours[v] - hours[u]) % many for v in range(places)) for u in range(places)
+    )
+
+
+def wide_networks(places, seed):
+    """Networks of so many places of deciding kinds: (network, whether it is known to have a completion)."""
+    chance = random.Random(seed)
+    for many in (3, 4, 5):
+        kinds = [
+            (distance_kind(tuple(range(1, many + 1))), tree_rows(chance, places, many)),
+            (level_kind(many), level_rows(places, many)),
+            (sum_kind(many), clock_rows(chance, places, many)),
+            (order_kind(), row_rows(chance, places)),
+        ]
+        for kind, rows in kinds:
+            for share in (0.05, 0.2, 1):
+                yield part_of(chance, kind, rows, share), True
+                yield part_of(chance, kind, rows, share, 3), None
+        yield Network(free_kind(many), places, []), True
+        yield some_network(chance, free_kind(many), places, 0.5), True
+        yield some_network(chance, distance_kind(tuple(range(1, many + 1))), places, 0.08), None
+
+
+def deciding_kinds():
+    """Small kinds that decide: all of one and two relations, some of three and four, and built ones."""
+    found = [kind for kind in small_kinds() + list(some_kinds(4, 12, 21)) if decides(kind)]
+    return found + [
+        order_kind(), level_kind(3), distance_kind((1, 2, 3)), distance_kind((2, 3, 5)), sum_kind(3), sum_kind(4),
+        distance_kind((1, 2, 3, 4)), free_kind(3),
+    ]

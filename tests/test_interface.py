@@ -25,6 +25,11 @@ INTERFACE = {
                "require_deciding(kind); common_of_ways(kind, words); clashing_ways(kind, words)",
     "networks": "Network(kind, places, told); with_told(network, u, v, x); rows_of(network); "
                 "is_completion(network, value); tried_completion(network)",
+    "rings": "is_ring(network, value); is_bare(network, ring); bare_rings(network); ring_network(network, ring); "
+             "ring_can(network, ring)",
+    "deciding": "verdict(network); is_verdict(network, value)",
+    "against": "against(kind); is_against(kind, value)",
+    "steps": "are_lots(kind, value); lots_of(network); stepped(kind, lots); rounds(kind, lots)",
 }
 ERRORS = ["RingsError", "InvalidKind", "InvalidNetwork", "InvalidWord", "InvalidQuestion", "InvalidText",
           "NotDeciding", "Refused", "InvalidCommand"]
