@@ -13,6 +13,11 @@ def are_different_places(network, value):
     return isinstance(value, tuple) and are_below(value, network.places) and len(set(value)) == len(value)
 
 
+def leads_from_to(network, value, u, v):
+    """Whether any value is a tuple of different places, the first one u, the last one v."""
+    return are_different_places(network, value) and value[:1] == (u,) and value[-1:] == (v,)
+
+
 def is_ring(network, value):
     """Whether any value is a ring: three or more different places whose neighbours are told."""
     if not are_different_places(network, value) or len(value) < 3:

@@ -5,7 +5,7 @@ import time
 import unittest
 from itertools import combinations, permutations, product
 
-from ringsdecide.built import distance_kind, free_kind, level_kind, order_kind, sum_kind
+from ringsdecide.built import distance_kind, free_kind, level_kind, order_kind, sector_kind, sum_kind
 from ringsdecide.kinds import Kind
 from ringsdecide.meeting import decides
 from ringsdecide.networks import Network
@@ -231,6 +231,11 @@ def slow_completions(network):
     return list(fill(0))
 
 
+def tried_places(kind):
+    """How many places a network of a kind may have, so that all its completions are soon gone through."""
+    return 5 if len(slow_completions(Network(kind, 4, []))) < 100 else 4
+
+
 def slow_possible_rows(network):
     """For each pair the relations of all completions, in rows."""
     found = slow_completions(network)
@@ -238,6 +243,24 @@ def slow_possible_rows(network):
     return tuple(
         tuple(None if u == v else tuple(sorted({rows[u][v] for rows in found})) for v in places) for u in places
     )
+
+
+def slow_ways(network, u, v):
+    """All ways of told pairs from u to v, as tuples of places."""
+    waiting = [(u,)]
+    while waiting:
+        way = waiting.pop()
+        if way[-1] == v:
+            yield way
+            continue
+        for w in range(network.places):
+            if w not in way and network.between(way[-1], w) is not None:
+                waiting.append(way + (w,))
+
+
+def way_word(network, way):
+    """The relations told along a way."""
+    return tuple(network.between(u, v) for u, v in zip(way, way[1:]))
 
 
 def slow_rings(network):
@@ -324,7 +347,7 @@ def clock_rows(chance, places, many):
 def wide_networks(places, seed):
     """Networks of so many places of deciding kinds: (network, whether it is known to have a completion)."""
     chance = random.Random(seed)
-    for many in (3, 4, 5):
+    for many, shares in ((3, (0.05, 1)), (5, (0.2,))):
         kinds = [
             (distance_kind(tuple(range(1, many + 1))), tree_rows(chance, places, many)),
             (level_kind(many), level_rows(places, many)),
@@ -332,18 +355,27 @@ def wide_networks(places, seed):
             (order_kind(), row_rows(chance, places)),
         ]
         for kind, rows in kinds:
-            for share in (0.05, 0.2, 1):
+            for share in shares:
                 yield part_of(chance, kind, rows, share), True
                 yield part_of(chance, kind, rows, share, 3), None
-        yield Network(free_kind(many), places, []), True
         yield some_network(chance, free_kind(many), places, 0.5), True
         yield some_network(chance, distance_kind(tuple(range(1, many + 1))), places, 0.08), None
 
 
 def deciding_kinds():
-    """Small kinds that decide: all of one and two relations, some of three and four, and built ones."""
-    found = [kind for kind in small_kinds() + list(some_kinds(4, 12, 21)) if decides(kind)]
+    """Small kinds that decide, each once: all of one and two relations, some of three and four, and built ones."""
+    found = []
+    for kind in small_kinds() + list(some_kinds(3, 150, 20)) + list(some_kinds(4, 200, 21)):
+        few = kind.relations < 3 or len(kind.triples) < 0.8 * kind.relations ** 3
+        if few and decides(kind) and kind not in found:
+            found.append(kind)
     return found + [
         order_kind(), level_kind(3), distance_kind((1, 2, 3)), distance_kind((2, 3, 5)), sum_kind(3), sum_kind(4),
         distance_kind((1, 2, 3, 4)), free_kind(3),
     ]
+
+
+APART_OR_UNMEETING = [
+    (all_but_threes(2), 0), (distance_kind((1, 2, 4)), 0), (Kind((0,), []), 0), (sector_kind(3), 1),
+    (sector_kind(4), 1),
+]

@@ -30,6 +30,16 @@ INTERFACE = {
     "deciding": "verdict(network); is_verdict(network, value)",
     "against": "against(kind); is_against(kind, value)",
     "steps": "are_lots(kind, value); lots_of(network); stepped(kind, lots); rounds(kind, lots)",
+    "reaching": "reach(kind); is_risky(kind, length); lots_after(kind, count); repeats(kind); "
+                "bad_round(kind, length); is_bad_round(kind, value); endless(kind); is_endless(kind, value); "
+                "lasting(kind); far_relations(kind)",
+    "possible": "possible(network, u, v); possible_rows(network); sure_pairs(network); "
+                "way_against(network, u, v, x); is_way_against(network, u, v, x, value)",
+    "choices": "chosen(network, choices); filled(network)",
+    "needless": "needless(network); core(network); same_completions(one, other)",
+    "halftold": "HalfTold(kind, places, told); soft_lots(kind); half_lots(half); is_half_completion(half, value); "
+                "half_possible(half); half_filled(half); unfolded(half); way_of_lots(half, u, v, x); "
+                "is_way_of_lots(half, u, v, x, value)",
 }
 ERRORS = ["RingsError", "InvalidKind", "InvalidNetwork", "InvalidWord", "InvalidQuestion", "InvalidText",
           "NotDeciding", "Refused", "InvalidCommand"]
@@ -53,6 +63,7 @@ class Interface(unittest.TestCase):
         network = import_module("ringsdecide.networks").Network
         self.assertIn("__eq__", vars(network))
         self.assertEqual(str(inspect.signature(vars(network)["between"])), "(self, u, v)")
+        self.assertIn("__eq__", vars(import_module("ringsdecide.halftold").HalfTold))
 
     def test_arguments_stay(self):
         kind = order_kind()
