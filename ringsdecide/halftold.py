@@ -15,33 +15,30 @@ from ringsdecide.ways import is_lot, shortest_words
 MOST_PLACES = 40
 
 
-def words_in_common(kind, within):
-    """A dict: bits that lots of ways have in common, all of which have the bits `within`, and words of such lots.
-
-    The words have as few relations as may be, those of single relations aside: a way of them has one place between
-    less than relations. No words for all relations.
-    """
-    words = shortest_words(kind)
-    found = {all_bits(kind): ()}
-    for bits in words:
-        if bits & within != within:
-            continue
-        for before in list(found):
-            longer = found[before] + (words[bits],)
-            left = before & bits
-            if left not in found or places_between(longer) < places_between(found[left]):
-                found[left] = longer
-    return found
-
-
 def places_between(words):
     """How many places ways of these words have between their ends."""
     return sum([len(word) - 1 for word in words])
 
 
+def words_in_common(kind):
+    """A dict: the bits that any lots of ways have in common, and words of such lots, with few places between.
+
+    All relations are what no lots have in common.
+    """
+    words = shortest_words(kind)
+    found = {all_bits(kind): ()}
+    for bits in words:
+        for before in list(found):
+            more = found[before] + (words[bits],)
+            left = before & bits
+            if left not in found or places_between(more) < places_between(found[left]):
+                found[left] = more
+    return found
+
+
 def soft_bits(kind):
-    """A dict of the bits of all soft lots."""
-    return {bits: True for bits in words_in_common(kind, 0) if bits != 0}
+    """The bits of all soft lots."""
+    return [bits for bits in words_in_common(kind) if bits != 0]
 
 
 def soft_lots(kind):
@@ -133,13 +130,11 @@ def half_filled(half):
 
 def unfolded(half):
     """Some network in which each told lot is what ways of further places leave in common to its two places."""
+    words = words_in_common(half.kind)
     told = []
     places = half.places
-    known = {}
     for u, v, lot in half.told:
-        if lot not in known:
-            known[lot] = words_in_common(half.kind, bits_of(lot))[bits_of(lot)]
-        for word in known[lot]:
+        for word in words[bits_of(lot)]:
             told = told + way_told(word, u, v, places)
             places += len(word) - 1
     if places > MOST_PLACES:

@@ -4,7 +4,7 @@ import random
 import unittest
 from itertools import combinations, permutations
 
-from ringsdecide.built import distance_kind, free_kind, level_kind, order_kind, sector_kind, sum_kind
+from ringsdecide.built import barred_kind, distance_kind, free_kind, level_kind, order_kind, sector_kind, sum_kind
 from ringsdecide.deciding import verdict
 from ringsdecide.errors import InvalidNetwork, NotDeciding, Refused
 from ringsdecide.halftold import (
@@ -12,11 +12,10 @@ from ringsdecide.halftold import (
     way_of_lots,
 )
 from ringsdecide.kinds import Kind
-from ringsdecide.meeting import decides
 from ringsdecide.networks import Network
 from ringsdecide.possible import possible_rows
 from ringsdecide.steps import are_lots, lots_of, stepped
-from ringsdecide.ways import joined, way_lots
+from ringsdecide.ways import joined, way_lots, word_of
 from tests.helpers import (
     APART_OR_UNMEETING, ODD_VALUES, Case, EqualToAll, clock_rows, deciding_kinds, level_rows, row_rows,
     slow_completions, slow_ends, slow_full_networks, small_kinds, some_kinds, tree_rows, tried_places,
@@ -381,6 +380,22 @@ class Unfolded(Case):
         network = self.check(HalfTold(free_kind(1), 2, [(1, 0, (0,))]))
         self.assertEqual(network.places, 2)
 
+    def test_few_hidden_places(self):
+        # Two words that come early leave (0, 3) in common, but a single later one has these ends, too.
+        kind = barred_kind((0, 2, 1, 3), [(0, 2, 2), (1, 1, 1)])
+        self.assertEqual(self.check(HalfTold(kind, 2, [(0, 1, (0, 3))])).places, 3)
+        for kind in deciding_kinds() + [kind, distance_kind((1, 2, 3, 4, 5))]:
+            lots = way_lots(kind)
+            least = {tuple(range(kind.relations)): 0}
+            for many in (1, 2, 3):
+                for some in combinations(lots, many):
+                    common = tuple(sorted(set.intersection(*[set(lot) for lot in some])))
+                    hidden = sum(len(word_of(kind, lot)) - 1 for lot in some)
+                    least[common] = min(hidden, least.get(common, 99))
+            for lot in soft_lots(kind):
+                if lot in least:
+                    self.assertLessEqual(unfolded(HalfTold(kind, 2, [(0, 1, lot)])).places, 2 + least[lot])
+
     def test_longer_words(self):
         for kind in deciding_kinds():
             for lot in soft_lots(kind):
@@ -501,10 +516,6 @@ class WaysOfLots(Case):
             (0, EqualToAll(), 3), (0, [1], 2, 3), (0, 1, 2, 3, 0), (0, -1, 3), EqualToAll(), (3,), (0,),
         ]:
             self.assertIs(is_way_of_lots(half, 0, 3, 1, value), False)
-
-    def test_kinds_of_the_tests_decide(self):
-        for kind in deciding_kinds():
-            self.assertIs(decides(kind), True)
 
 
 if __name__ == "__main__":

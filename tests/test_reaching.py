@@ -4,6 +4,7 @@ import random
 import unittest
 from itertools import combinations, permutations, product
 
+from ringsdecide.bits import Joins, bits_of
 from ringsdecide.built import (
     barred_kind, distance_kind, free_kind, level_kind, order_kind, sector_kind, sum_kind,
 )
@@ -13,7 +14,8 @@ from ringsdecide.kinds import Kind, renamed
 from ringsdecide.meeting import decides
 from ringsdecide.networks import Network
 from ringsdecide.reaching import (
-    bad_round, endless, far_relations, is_bad_round, is_endless, is_risky, lasting, lots_after, reach, repeats,
+    at_count, bad_round, endless, far_relations, is_bad_round, is_endless, is_risky, lasting, lots_after, reach,
+    repeats, word_back,
 )
 from ringsdecide.rings import bare_rings
 from ringsdecide.ways import ends
@@ -175,6 +177,17 @@ class Repeats(Case):
         self.assertEqual(repeats(level_kind(2)), (2, 1))
 
 
+    def test_what_comes_again_after_some(self):
+        # Kinds of few relations repeat each single count; that longer periods are told right is tried without a kind.
+        found = ["a", "b", "c", "d", "e"]
+        for start in range(5):
+            row = found + found[start:] * 10
+            for count in range(1, 30):
+                if count <= len(row):
+                    self.assertEqual(at_count((found, start), count), row[count - 1])
+        self.assertEqual(at_count((found, 2), 10 ** 18), found[2 + (10 ** 18 - 3) % 3])
+
+
 class Rounds(Case):
     def test_bad_round(self):
         for kind in gluing_kinds():
@@ -234,6 +247,22 @@ class Endless(Case):
             for often in range(1, 8):
                 self.assertEqual(slow_ends(kind, head + more * often), before)
         self.assertGreater(number, 4)
+
+    def test_words_that_lead_back(self):
+        lengths = set()
+        for kind in list(some_kinds(3, 60, 28)) + [sum_kind(4), order_kind(), sector_kind(4)]:
+            joins = Joins(kind)
+            for head in product(range(kind.relations), repeat=2):
+                before = slow_ends(kind, head)
+                told = word_back(joins, bits_of(before))
+                fits = [more for length in (1, 2, 3) for more in product(range(kind.relations), repeat=length)
+                        if slow_ends(kind, head + more) == before]
+                self.assertIs(told is None or len(told) > 3, fits == [])
+                if fits:
+                    lengths.add(len(told))
+                    self.assertIn(told, fits)
+                    self.assertEqual(len(told), len(fits[0]))
+        self.assertLessEqual({1, 2}, lengths)
 
     def test_is_endless(self):
         for kind in [order_kind(), level_kind(3), sum_kind(3), distance_kind((1, 2, 3)), sector_kind(3)]:
