@@ -6,7 +6,7 @@ from ringsdecide.deciding import network_links
 from ringsdecide.errors import Refused
 from ringsdecide.meeting import require_deciding
 from ringsdecide.networks import told_cells
-from ringsdecide.rings import leads_from_to
+from ringsdecide.rings import is_way, leads_from_to, way_word
 from ringsdecide.steps import stepped_lots
 from ringsdecide.walks import lacking_walk
 from ringsdecide.ways import ends_bits
@@ -53,7 +53,6 @@ def way_against(network, u, v, x):
 def is_way_against(network, u, v, x, value):
     """Whether any value is a way of told pairs from u to v whose ends cannot bear x."""
     require_deciding(network.kind)
-    if not leads_from_to(network, value, u, v):
+    if not leads_from_to(network, value, u, v) or not is_way(network, value):
         return False
-    word = [network.between(value[at - 1], value[at]) for at in range(1, len(value))]
-    return None not in word and not ends_bits(Joins(network.kind), word) >> x & 1
+    return not ends_bits(Joins(network.kind), way_word(network, value)) >> x & 1

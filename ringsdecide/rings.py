@@ -18,6 +18,16 @@ def leads_from_to(network, value, u, v):
     return are_different_places(network, value) and value[:1] == (u,) and value[-1:] == (v,)
 
 
+def way_word(network, way):
+    """The relations told from each place of a way to the next one."""
+    return tuple([network.between(way[at - 1], way[at]) for at in range(1, len(way))])
+
+
+def is_way(network, value):
+    """Whether any value is a way: two or more different places, neighbours being told."""
+    return are_different_places(network, value) and len(value) > 1 and None not in way_word(network, value)
+
+
 def is_ring(network, value):
     """Whether any value is a ring: three or more different places whose neighbours are told."""
     if not are_different_places(network, value) or len(value) < 3:

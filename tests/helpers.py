@@ -9,6 +9,7 @@ from ringsdecide.built import distance_kind, free_kind, level_kind, order_kind, 
 from ringsdecide.kinds import Kind
 from ringsdecide.meeting import decides
 from ringsdecide.networks import Network
+from ringsdecide.webs import Web
 
 
 class EqualToAll:
@@ -379,3 +380,62 @@ APART_OR_UNMEETING = [
     (all_but_threes(2), 0), (distance_kind((1, 2, 4)), 0), (Kind((0,), []), 0), (sector_kind(3), 1),
     (sector_kind(4), 1),
 ]
+
+
+def all_webs(places):
+    """All webs with so many places."""
+    pairs = list(combinations(range(places), 2))
+    for wanted in product((False, True), repeat=len(pairs)):
+        yield Web(places, [pair for pair, want in zip(pairs, wanted) if want])
+
+
+def some_web(chance, places, many):
+    """A web with so many pairs, or all there are, each told in either order."""
+    pairs = list(combinations(range(places), 2))
+    told = chance.sample(pairs, min(many, len(pairs)))
+    return Web(places, [pair if chance.random() < 0.5 else pair[::-1] for pair in told])
+
+
+def ring_web(places):
+    """The web of one ring, with no other pairs."""
+    return Web(places, [(at, (at + 1) % places) for at in range(places)])
+
+
+def full_web(places):
+    """The web of all pairs."""
+    return Web(places, list(combinations(range(places), 2)))
+
+
+def slow_web_rings(web):
+    """All rings of a web, each from its least place on, the second place less than the last; by trying all orders."""
+    pairs = set(web.pairs) | {pair[::-1] for pair in web.pairs}
+    for many in range(3, web.places + 1):
+        for some in combinations(range(web.places), many):
+            for rest in permutations(some[1:]):
+                ring = some[:1] + rest
+                if ring[1] < ring[-1] and all((ring[at - 1], ring[at]) in pairs for at in range(many)):
+                    yield ring
+
+
+def slow_row(web, ring):
+    """The row of a ring, step by step."""
+    row = [0] * len(web.pairs)
+    for u, v in zip(ring, ring[1:] + ring[:1]):
+        if u < v:
+            row[web.pairs.index((u, v))] += 1
+        else:
+            row[web.pairs.index((v, u))] -= 1
+    return tuple(row)
+
+
+def weighed(row, telling, modulus):
+    """What a row sums to by a telling."""
+    return sum(x * y for x, y in zip(row, telling)) % modulus
+
+
+def slow_even_tellings(web, modulus):
+    """All tellings by which all triangles sum to 0, by trying."""
+    rows = [slow_row(web, ring) for ring in slow_web_rings(web) if len(ring) == 3]
+    for telling in product(range(modulus), repeat=len(web.pairs)):
+        if all(weighed(row, telling, modulus) == 0 for row in rows):
+            yield telling

@@ -40,6 +40,17 @@ INTERFACE = {
     "halftold": "HalfTold(kind, places, told); soft_lots(kind); half_lots(half); is_half_completion(half, value); "
                 "half_possible(half); half_filled(half); unfolded(half); way_of_lots(half, u, v, x); "
                 "is_way_of_lots(half, u, v, x, value)",
+    "distances": "bounded_sum(numbers, row); bracket_fault(numbers); distance_fault(numbers); "
+                 "gluing_sets(most, size); least_sums(numbers); distance_reach(numbers)",
+    "shortways": "way_sum(numbers, network, way); short_way(numbers, network, u, v); "
+                 "greatest_completion(numbers, network); long_pair(numbers, network); "
+                 "is_long_pair(numbers, network, value)",
+    "sums": "ring_sum(network, ring); heights(network); uneven_ring(network); is_uneven_ring(network, value); "
+            "rows_of_heights(many, row); count_completions(network)",
+    "triangles": "web_triangles(web); ring_row(web, ring); triangle_sum(web, modulus, ring); "
+                 "telling_against(web, modulus, ring); is_triangle_sum(web, modulus, ring, value); "
+                 "is_telling_against(web, modulus, ring, value)",
+    "webs": "Web(places, pairs)",
 }
 ERRORS = ["RingsError", "InvalidKind", "InvalidNetwork", "InvalidWord", "InvalidQuestion", "InvalidText",
           "NotDeciding", "Refused", "InvalidCommand"]
@@ -64,6 +75,7 @@ class Interface(unittest.TestCase):
         self.assertIn("__eq__", vars(network))
         self.assertEqual(str(inspect.signature(vars(network)["between"])), "(self, u, v)")
         self.assertIn("__eq__", vars(import_module("ringsdecide.halftold").HalfTold))
+        self.assertIn("__eq__", vars(import_module("ringsdecide.webs").Web))
 
     def test_arguments_stay(self):
         kind = order_kind()
