@@ -75,7 +75,8 @@ class Diagonal:
     def clear_column(self, at, column):
         """Take the pivot's row from the others, as often as leaves the least; whether that clears its column."""
         entry = self.rows[at][column]
-        for other in [other for other in self.columns[column] if other != at]:
+        others = [index for index in self.columns[column] if index != at]
+        for other in others:
             self.take_row(other, self.rows[other][column] // entry, at)
         return len(self.columns[column]) == 1
 

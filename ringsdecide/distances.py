@@ -49,7 +49,7 @@ def bracket_fault(numbers):
 
 
 def require_brackets(numbers):
-    """Refuse numbers whose kind does not glue; that is told by brackets, which are soon gone through."""
+    """Refuse what are no numbers, then numbers whose kind does not glue: brackets tell that, and are soon tried."""
     if bracket_fault(numbers) is not None:
         raise NotDeciding(0)
 
@@ -77,7 +77,6 @@ def least_sums(numbers):
 
 def distance_reach(numbers):
     """The reach of the kind of these distances: 2 or more, or None if rings of all lengths can go wrong."""
-    check_numbers(numbers)
     require_brackets(numbers)
     sums = least_sums(numbers)
     if sums[-1] != numbers[-1]:

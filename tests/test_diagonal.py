@@ -56,6 +56,25 @@ class Diagonals(unittest.TestCase):
                     self.assertNotEqual(sum(wanted[at] * weights.get(at, 0) for at in range(columns)) % modulus, 0)
         self.assertTrue(min(found.values()) > 1000, found)
 
+    def test_large_moduli(self):
+        chance = random.Random(3)
+        for _ in range(400):
+            columns = chance.randrange(1, 6)
+            rows = some_rows(chance, chance.randrange(6), columns)
+            form = Diagonal(dicts(rows))
+            modulus = chance.choice((1, 10, 12, 30, 48, 210, 720720, 999983, 10 ** 6))
+            wanted = [0] * columns
+            for row in rows:
+                times = chance.randrange(modulus)
+                wanted = [x + times * y + modulus * chance.randrange(-2, 3) for x, y in zip(wanted, row)]
+            told = form.multiples(modulus, dict(enumerate(wanted)))
+            self.assertIs(form.column_against(modulus, dict(enumerate(wanted))), None)
+            for at in range(columns):
+                total = sum(t * each[at] for t, each in zip(told, rows))
+                self.assertEqual((total - wanted[at]) % modulus, 0)
+            for number in told:
+                self.assertIn(number, range(modulus))
+
     def test_orders(self):
         chance = random.Random(2)
         for _ in range(100):

@@ -50,7 +50,24 @@ INTERFACE = {
     "triangles": "web_triangles(web); ring_row(web, ring); triangle_sum(web, modulus, ring); "
                  "telling_against(web, modulus, ring); is_triangle_sum(web, modulus, ring, value); "
                  "is_telling_against(web, modulus, ring, value)",
-    "webs": "Web(places, pairs)",
+    "webs": "Web(places, pairs); web_of(network); web_rings(web); longest_ring(web); is_safe(kind, web); "
+            "spoiled(kind, web); is_spoiled(kind, web, value); ring_plan(web); is_plan(web, value); "
+            "plan_completion(network); further_pairs(kind, web); all_further(kind, web)",
+    "clocks": "is_sound(web, modulus); unsound(web, modulus); is_unsound(web, modulus, value); "
+              "count_tellings(web, modulus); triangle_rank(web, prime); ring_group(web); wound_web(length, rounds); "
+              "beside(one, other)",
+    "book": "Book(kind, places)",
+    "sheets": "sheet_holds(value); sheet(name, question); wrong_sheets(values)",
+    "desk": "Desk()",
+}
+METHODS = {
+    "networks.Network": "between(self, u, v); __eq__(self, other)",
+    "halftold.HalfTold": "__eq__(self, other)",
+    "webs.Web": "__eq__(self, other)",
+    "kinds.Kind": "__eq__(self, other)",
+    "book.Book": "__len__(self); network(self); tell(self, u, v, x); take(self, u, v); possible(self, u, v); "
+                 "why_not(self, u, v, x); completion(self); free_pairs(self); undo(self); within(self, work)",
+    "desk.Desk": "say(self, command)",
 }
 ERRORS = ["RingsError", "InvalidKind", "InvalidNetwork", "InvalidWord", "InvalidQuestion", "InvalidText",
           "NotDeciding", "Refused", "InvalidCommand"]
@@ -71,11 +88,12 @@ class Interface(unittest.TestCase):
             self.assertEqual(getattr(module, name).__module__, "ringsdecide.errors")
 
     def test_methods(self):
-        network = import_module("ringsdecide.networks").Network
-        self.assertIn("__eq__", vars(network))
-        self.assertEqual(str(inspect.signature(vars(network)["between"])), "(self, u, v)")
-        self.assertIn("__eq__", vars(import_module("ringsdecide.halftold").HalfTold))
-        self.assertIn("__eq__", vars(import_module("ringsdecide.webs").Web))
+        for name, listed in METHODS.items():
+            module, name = name.split(".")
+            methods = vars(getattr(import_module(f"ringsdecide.{module}"), name))
+            for form in listed.split("; "):
+                method = methods[form.split("(")[0]]
+                self.assertEqual(f"{method.__name__}{inspect.signature(method)}", form)
 
     def test_arguments_stay(self):
         kind = order_kind()
