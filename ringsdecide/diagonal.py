@@ -40,8 +40,10 @@ class Diagonal:
 
     def put(self, at, column, entry):
         """Set an entry."""
-        self.rows.setdefault(at, {})[column] = entry
-        self.columns.setdefault(column, {})[at] = True
+        row = self.rows.setdefault(at, {})
+        row[column] = entry
+        rows_there = self.columns.setdefault(column, {})
+        rows_there[at] = True
 
     def drop(self, at, column):
         """Make an entry 0; a row without entries needs no more steps."""
@@ -83,12 +85,14 @@ class Diagonal:
     def take_row(self, other, times, at):
         """The other row less so many times a row."""
         self.row_steps.append((other, times, at))
-        row = dict(self.rows[other])
-        for column, entry in list(self.rows[at].items()):
-            left = row.get(column, 0) - times * entry
-            if left != 0:
-                self.put(other, column, left)
-            elif column in row:
+        taken = [(column, times * entry) for column, entry in self.rows[at].items()]
+        # The entries as they were: the row may be empty for a while.
+        before = {column: entry for column, entry in self.rows[other].items()}
+        for column, entry in taken:
+            rest = before.get(column, 0) - entry
+            if rest != 0:
+                self.put(other, column, rest)
+            elif column in before:
                 self.drop(other, column)
 
     def clear_row(self, at, column):
