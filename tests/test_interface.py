@@ -4,10 +4,16 @@ import inspect
 import unittest
 from importlib import import_module
 
+from ringsdecide.book import Book
 from ringsdecide.built import order_kind
+from ringsdecide.desk import Desk
+from ringsdecide.errors import InvalidCommand, RingsError
 from ringsdecide.fullnets import common_lot, extended
+from ringsdecide.halftold import HalfTold
 from ringsdecide.meeting import clashing_ways, common_of_ways
+from ringsdecide.networks import Network
 from ringsdecide.ways import ends, way_network, ways_network
+from ringsdecide.webs import Web
 
 INTERFACE = {
     "kinds": "Kind(turned, triples); readings(turned, triple); together(kind, x, y); is_allowed(kind, x, y, z); "
@@ -94,6 +100,15 @@ class Interface(unittest.TestCase):
             for form in listed.split("; "):
                 method = methods[form.split("(")[0]]
                 self.assertEqual(f"{method.__name__}{inspect.signature(method)}", form)
+
+    def test_no_object_equals_one_of_another_kind(self):
+        kind = order_kind()
+        things = [kind, Network(kind, 1, []), HalfTold(kind, 1, []), Web(1, []), Book(kind, 1), Desk(), 1, (), None,
+                  (1, ()), (kind, 1, ()), RingsError(), InvalidCommand()]
+        for at, one in enumerate(things):
+            for other_at, other in enumerate(things):
+                self.assertIs(one == other, at == other_at)
+                self.assertIs(one != other, at != other_at)
 
     def test_arguments_stay(self):
         kind = order_kind()
